@@ -1,0 +1,229 @@
+"""A slow, plain way to run programs, made of whole stacks. It shares nothing with the package but the programs."""
+
+STOPPED = ("stopped",)
+
+
+class Plain:
+    """The successors of configurations of a program.
+
+    A configuration is a tuple of a control stack and of all holders. What the control stack holds, from the oldest to
+    the newest, is ("steps", function, path of the body, number of the next step), ("drop", place, named),
+    ("end", function), ("guard", number of holders) and ("stopped",).
+    """
+
+    def __init__(self, program, told=None):
+        self.names = program.names()
+        self.functions = [function for function, _ in program.functions()]
+        self.bodies = {}
+        self.told = told
+        for function, body in program.functions():
+            self.keep(function, (), body)
+
+    def keep(self, function, path, body):
+        self.bodies[(function, path)] = body
+        for number, step in enumerate(body):
+            here = path + (number,)
+            if step[0] in ("either", "when"):
+                self.keep(function, here + (0,), step[-2])
+                self.keep(function, here + (1,), step[-1])
+            elif step[0] in ("hold", "loop", "guard"):
+                self.keep(function, here, step[-1])
+
+    def start(self):
+        return self.frame(self.functions[0], [""] * len(self.names))
+
+    def frame(self, function, cells):
+        holders = tuple((name, worth) for name, worth in zip(self.names, cells) if worth != "")
+        return ((("end", function), ("steps", function, (), 0)), holders)
+
+    def cells(self, holders):
+        held = dict(holders)
+        return [held.get(name, "") for name in self.names]
+
+    def stack(self, config):
+        return [item[1] for item in config[0] if item[0] == "end"]
+
+    def unfold(self, config, base=0):
+        """Return the places come to, the pairs of event and next configuration, and the ways out.
+
+        `base` is the number of holders that were there ahead of the oldest frame. A call that is told about has its
+        next configurations with ("told", function, cells) for the event.
+        """
+        places, events, ways = [], [], []
+        todo, seen = [config], set()
+        while todo:
+            now = todo.pop()
+            if now in seen:
+                continue
+            seen.add(now)
+            control, holders = now
+            if not control or control[-1] == STOPPED:
+                continue
+            item, rest = control[-1], control[:-1]
+            if item[0] == "guard":
+                todo.append((rest, holders))
+            elif item[0] == "drop":
+                events.append((("drop", item[1]), (rest, holders[:-1] if item[2] else holders)))
+            elif item[0] == "end":
+                events.append((("end", item[1]), (rest, holders)))
+                if not rest:
+                    ways.append(("end", self.cells(holders)))
+            else:
+                self.steps(item, rest, holders, base, (places, events, ways, todo))
+        return places, events, ways
+
+    def steps(self, item, rest, holders, base, out):
+        places, events, ways, todo = out
+        _, function, path, number = item
+        body = self.bodies[(function, path)]
+        if number == len(body):
+            todo.append((rest, holders))
+            return
+        step = body[number]
+        here = path + (number,)
+        place = (function, here)
+        places.append(place)
+        behind = rest + (("steps", function, path, number + 1),)
+        held = dict(holders)
+        word = step[0]
+        asked = []
+        if word in ("say", "when"):
+            asked.append(step[1])
+        if word in ("hold", "set") and step[2] in self.names:
+            asked.append(step[2])
+        if word == "set" and step[1] is not None:
+            asked.append(step[1])
+        if [name for name in asked if name not in held]:
+            events.append((("bare", place), (rest + (STOPPED,), holders)))
+        elif word == "say":
+            events.append((("say", place, held[step[1]]), (behind, holders)))
+        elif word == "set":
+            worth = held[step[2]] if step[2] in self.names else step[2]
+            events.append((("set", place), (behind, renewed(holders, step[1], worth))))
+        elif word == "hold":
+            worth = held[step[2]] if step[2] in self.names else step[2]
+            inner = behind + (("drop", place, step[1] is not None), ("steps", function, here, 0))
+            more = () if step[1] is None else ((step[1], worth),)
+            events.append((("hold", place), (inner, holders + more)))
+        elif word == "call":
+            self.call(place, step, behind, holders, base, events, ways)
+        elif word == "either":
+            todo.append((behind + (("steps", function, here + (0,), 0),), holders))
+            todo.append((behind + (("steps", function, here + (1,), 0),), holders))
+        elif word == "loop":
+            todo.append((behind, holders))
+            todo.append((rest + (item, ("steps", function, here, 0)), holders))
+        elif word == "when":
+            branch = 0 if held[step[1]] == step[2] else 1
+            todo.append((behind + (("steps", function, here + (branch,), 0),), holders))
+        elif word == "guard":
+            todo.append((behind + (("guard", len(holders)), ("steps", function, here, 0)), holders))
+        else:
+            config, way = self.fallen(behind, holders, base)
+            events.append((("raise", place), config))
+            ways.extend(way)
+
+    def call(self, place, step, behind, holders, base, events, ways):
+        if self.told is None:
+            inner = behind + (("end", step[1]), ("steps", step[1], (), 0))
+            events.append((("call", place), (inner, holders)))
+            return
+        cells = tuple(self.cells(holders))
+        called = ("told", step[1], cells)
+        # Also a call that never comes back is to be seen.
+        events.append((called, ((), ())))
+        for word, after in self.told.get((step[1], cells), []):
+            changed = holders
+            for name, worth in zip(self.names, after):
+                if worth != "":
+                    changed = renewed(changed, name, worth)
+            if word == "end":
+                events.append((called, (behind, changed)))
+            else:
+                config, way = self.fallen(behind, changed, base)
+                events.append((called, config))
+                ways.extend(way)
+
+    def fallen(self, control, holders, base):
+        """Return the configuration behind a raise, and the list of the way out that it is, if it is one."""
+        while control:
+            if control[-1][0] == "guard":
+                return (control[:-1], holders[:control[-1][1]]), []
+            control = control[:-1]
+        return ((), ()), [("raise", self.cells(holders[:base]))]
+
+    def walk(self, run):
+        """Return the configuration behind a run, or None if it is none."""
+        config = self.start()
+        for event in run:
+            fitting = [later for offered, later in self.unfold(config)[1] if offered == event]
+            if len(fitting) != 1:
+                return None
+            config = fitting[0]
+        return config
+
+
+def renewed(holders, name, worth):
+    """Return holders with another worth for the newest one of a name."""
+    if name is None:
+        return holders
+    newest = max(number for number, holder in enumerate(holders) if holder[0] == name)
+    return holders[:newest] + ((name, worth),) + holders[newest + 1:]
+
+
+class Seen:
+    """What a breadth-first search from a configuration finds, at most as far as a number of configurations."""
+
+    def __init__(self, plain, config, most):
+        self.least = {}
+        self.ways = set()
+        self.begun = set()
+        self.calls = set()
+        # The number of events up to which all is found, or None if there is nothing more at all.
+        self.whole = 0
+        base = len(config[1])
+        level, seen = [config], {config}
+        while level and len(seen) < most:
+            later = []
+            for now in level:
+                for event, ahead in self.look(plain, now, base):
+                    if ahead not in seen:
+                        seen.add(ahead)
+                        later.append(ahead)
+            level = later
+            self.whole += 1
+        if not level:
+            self.whole = None
+
+    def look(self, plain, now, base):
+        places, events, ways = plain.unfold(now, base)
+        cells = tuple(plain.cells(now[1]))
+        for place in places:
+            self.least.setdefault((place, cells), self.whole)
+        for word, after in ways:
+            self.ways.add((word, tuple(after)))
+        for event, ahead in events:
+            if event[0] == "call":
+                self.begun.add((plain.stack(ahead)[-1], tuple(plain.cells(ahead[1]))))
+            if event[0] == "told":
+                self.calls.add(event[1:])
+        return events
+
+
+def is_table_plainly(program, rows):
+    """Return whether rows of functions, cells and ways are a table, by the words of the document."""
+    told = {}
+    for function, cells, ways in rows:
+        if (function, tuple(cells)) in told:
+            return False
+        told[(function, tuple(cells))] = ways
+    plain = Plain(program, told)
+    if (plain.functions[0], ("",) * len(plain.names)) not in told:
+        return False
+    for function, cells, ways in rows:
+        seen = Seen(plain, plain.frame(function, cells), 10 ** 9)
+        if not all(call in told for call in seen.calls):
+            return False
+        if not all((word, list(after)) in ways for word, after in seen.ways):
+            return False
+    return True

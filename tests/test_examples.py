@@ -1,0 +1,56 @@
+"""The examples of the document, word for word, with the answers below them."""
+
+import unittest
+
+RUNS = '''
+from heldnames.programs import Program
+from heldnames.runs import cells_of, holders_of, next_events
+body = [("hold", "tone", "low", [("call", "talk")]), ("say", "tone")]
+talk = [("when", "tone", "low", [("set", "tone", "high"), ("call", "talk")], [("say", "tone")])]
+horn = Program(["tone"], ["low", "high"], [("main", body), ("talk", talk)])
+run = [("hold", ("main", (0,))), ("call", ("main", (0, 0))), ("set", ("talk", (0, 0, 0))), ("call", ("talk", (0, 0, 1)))]
+some = Program(["a"], ["x"], [("f", [("either", [], [("set", None, "a")])])])
+[cells_of(horn, run), holders_of(horn, run), next_events(horn, run), next_events(horn, run + [("say", ("talk", (0, 1, 0)), "high")]), next_events(some, [])]
+# [['high'], [('tone', 'high')], [('say', ('talk', (0, 1, 0)), 'high')], [('end', 'talk')], [('bare', ('f', (0, 1, 0))), ('end', 'f')]]
+'''
+
+CELLS = '''
+from heldnames.cells import met, run_to, table, ways_out
+from heldnames.programs import Program
+body = [("hold", "tone", "low", [("call", "talk")]), ("say", "tone")]
+talk = [("when", "tone", "low", [("set", "tone", "high"), ("call", "talk")], [("say", "tone")])]
+horn = Program(["tone"], ["low", "high"], [("main", body), ("talk", talk)])
+[met(horn, ("talk", (0,))), len(run_to(horn, ("talk", (0, 1, 0)), ["high"])), run_to(horn, ("main", (1,)), ["low"]), ways_out(horn, "talk", [""]), table(horn)]
+# [[['high'], ['low']], 4, None, [], [('main', [''], []), ('talk', ['high'], [('end', ['high'])]), ('talk', ['low'], [('end', ['high'])])]]
+'''
+
+TURNS = '''
+from heldnames.cells import met, run_to, table, ways_out
+from heldnames.programs import Program
+body = [("guard", [("hold", "a", "y", [("call", "g")])]), ("hold", "a", "y", [("guard", [("call", "g")]), ("say", "a")])]
+turns = Program(["a"], ["x", "y"], [("main", body), ("g", [("set", "a", "x"), ("raise",)])])
+rounds = Program(["a"], ["x", "y"], [("f", [("hold", "a", "x", [("loop", [("set", "a", "y")])])])])
+[ways_out(turns, "g", ["y"]), ways_out(turns, "g", [""]), table(turns), met(rounds, ("f", (0, 0))), met(rounds, ("f", (0,))), run_to(rounds, ("f", (0, 0)), ["y"])]
+# [[('raise', ['x'])], [], [('g', ['y'], [('raise', ['x'])]), ('main', [''], [('end', [''])])], [['x'], ['y']], [['']], [('hold', ('f', (0,))), ('set', ('f', (0, 0, 0)))]]
+'''
+
+
+class Examples(unittest.TestCase):
+    def check(self, text):
+        *rows, asked, answer = text.strip("\n").split("\n")
+        scope = {}
+        exec("\n".join(rows), scope)
+        self.assertEqual("# " + repr(eval(asked, scope)), answer)
+
+    def test_section_4(self):
+        self.check(RUNS)
+
+    def test_section_5_first(self):
+        self.check(CELLS)
+
+    def test_section_5_second(self):
+        self.check(TURNS)
+
+
+if __name__ == "__main__":
+    unittest.main()
