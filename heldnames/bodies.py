@@ -92,3 +92,14 @@ def steps_of(body, path=()):
         for branch, inner in bodies_within(step):
             found.extend(steps_of(inner, here + branch))
     return found
+
+
+def shape_of(body):
+    """Return what a body has but for the names and the sources of its holds and sets."""
+    shapes = []
+    for step in body:
+        parts = [shape_of(part) if isinstance(part, list) else part for part in step]
+        if step[0] in ("hold", "set"):
+            del parts[1:3]
+        shapes.append(tuple(parts))
+    return shapes

@@ -1,5 +1,6 @@
 """Which cells steps are come to with and frames are left with, for all runs."""
 
+from heldnames.alone import Alone
 from heldnames.checks import check_cells, check_function, is_cells
 from heldnames.flow import Flow
 from heldnames.programs import check_place, check_program
@@ -32,7 +33,8 @@ def run_to(program, place, cells):
     if goal is None:
         return None
     start = search.begun[(flow.main, flow.bare())]
-    return shortest_run(search, start, goal)
+    events, _ = shortest_run(search, start, [goal])
+    return events
 
 
 def ways_out(program, function, cells):
@@ -68,7 +70,7 @@ def is_table(program, value):
     told = {(function, tuple(cells)): plain_ways(ways) for function, cells, ways in value}
     if len(told) != len(value) or (flow.main, flow.bare()) not in told:
         return False
-    search = Search(flow, told)
+    search = Search(Alone(flow), told)
     for function, cells in told:
         search.begin(function, cells)
     search.work()

@@ -11,6 +11,14 @@ def is_cells(program, value):
     return all([worth in worths for worth in value])
 
 
+def all_cells(program):
+    """Return the list of all cells for a program, as tuples."""
+    found = [()]
+    for _ in program.names():
+        found = [cells + (worth,) for cells in found for worth in [""] + program.worths()]
+    return found
+
+
 def check_cells(program, value):
     """Raise an error unless a value is cells for a program."""
     if not is_cells(program, value):
@@ -20,4 +28,10 @@ def check_cells(program, value):
 def check_function(program, value):
     """Raise an error unless a value is the name of a function of a program."""
     if value not in [function for function, _ in program.functions()]:
+        raise UnknownName(value)
+
+
+def check_name(program, value):
+    """Raise an error unless a value is one of the names of a program."""
+    if value not in program.names():
         raise UnknownName(value)

@@ -21,7 +21,9 @@ class Spot:
         self.name = None
         self.source = None
         self.worth = ""
+        # All names that are asked, and those of them whose worths are asked, too.
         self.asked = []
+        self.read = []
         self.function = ""
 
 
@@ -83,11 +85,15 @@ class Flow:
             spot.function = step[1]
         if spot.word in ("say", "when"):
             spot.name = self.order.index(step[1])
-            spot.asked = [spot.name]
+            spot.read = [spot.name]
         if spot.word == "when":
             spot.worth = step[2]
         if spot.word in ("hold", "set"):
             self.tell_source(spot, step[1], step[2])
+        spot.asked = list(spot.read)
+        # A hold brings a holder of its own, but a set needs one that is there.
+        if spot.word == "set" and spot.name is not None:
+            spot.asked.append(spot.name)
 
     def tell_source(self, spot, name, source):
         """Tell the spot of a hold or a set its name and its source."""
@@ -95,9 +101,6 @@ class Flow:
             spot.name = self.order.index(name)
         if source in self.order:
             spot.source = self.order.index(source)
-            spot.asked = [spot.source]
+            spot.read = [spot.source]
         else:
             spot.worth = source
-        # A hold brings a holder of its own, but a set needs one that is there.
-        if spot.word == "set" and spot.name is not None:
-            spot.asked = [spot.name] + spot.asked

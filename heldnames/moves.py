@@ -50,3 +50,28 @@ def event_at(spot, cells):
     if spot.word == "say":
         return ("say", spot.place, cells[spot.name])
     return (spot.word, spot.place)
+
+
+def restored(spot, ahead, left):
+    """Return the cells behind a hold or a call, from those ahead of it and those with which what it brings is left."""
+    if spot.name is None:
+        return left
+    return with_worth(left, spot.name, ahead[spot.name])
+
+
+def events_from(spot, cells):
+    """Return the tuples of event and spot for all events that can come next from a spot on, each once."""
+    found = []
+    seen = {}
+    todo = [spot]
+    while todo:
+        here = todo.pop()
+        if here.number in seen:
+            continue
+        seen[here.number] = True
+        event = event_at(here, cells)
+        if event is None:
+            todo.extend(silent_ahead(here, cells))
+        else:
+            found.append((event, here))
+    return found

@@ -2,7 +2,7 @@
 
 from heldnames.errors import InvalidRun
 from heldnames.flow import Flow
-from heldnames.moves import event_at, silent_ahead, worth_at
+from heldnames.moves import events_from, worth_at
 from heldnames.programs import check_program
 from heldnames.same import is_same
 
@@ -36,21 +36,7 @@ def events_ahead(walk):
     """Return the tuples of event and spot for all events that can come next."""
     if walk.over:
         return []
-    cells = walk.held()
-    found = []
-    seen = {}
-    todo = [walk.spot]
-    while todo:
-        spot = todo.pop()
-        if spot.number in seen:
-            continue
-        seen[spot.number] = True
-        event = event_at(spot, cells)
-        if event is None:
-            todo.extend(silent_ahead(spot, cells))
-        else:
-            found.append((event, spot))
-    return found
+    return events_from(walk.spot, walk.held())
 
 
 def take(walk, word, spot):

@@ -5,7 +5,8 @@ cells is one state, however deep the stack is. A state at a hold or a call goes 
 as far as there are any: so recursion without end leads to no more states.
 """
 
-from heldnames.moves import after_source, is_silent, is_stuck, silent_ahead, with_worth
+from heldnames.alone import Alone
+from heldnames.moves import is_silent
 
 
 class State:
@@ -31,13 +32,13 @@ class State:
 
 
 class Search:
-    """All states that are come to from some beginnings on.
+    """All states that are come to from some beginnings on, in a world: one program, or two of them abreast.
 
     With a dict of ways for pairs of function and cells, calls go on as that dict tells, and aren't followed.
     """
 
-    def __init__(self, flow, told=None):
-        self.flow = flow
+    def __init__(self, world, told=None):
+        self.world = world
         self.told = told
         self.states = {}
         # The states with which frames begin, and the calls that are come to, by function and cells.
@@ -48,7 +49,7 @@ class Search:
 
     def begin(self, function, cells):
         """Return the state with which a frame of a function begins."""
-        state = self.state_of(self.flow.begins[function], cells)
+        state = self.state_of(self.world.flow.begins[function], cells)
         self.begun[(function, cells)] = state
         return state
 
@@ -72,19 +73,19 @@ class Search:
     def go_on(self, state):
         """Find what comes next at a state."""
         spot = state.spot
-        if is_stuck(spot, state.cells):
+        if not self.world.goes_on(spot, state.cells):
             return
         if is_silent(spot):
-            for ahead in silent_ahead(spot, state.cells):
+            for ahead in self.world.spots_ahead(spot, state.cells):
                 self.link(state, ahead, state.cells, None)
         elif spot.word == "say":
             self.link(state, spot.behind, state.cells, None)
         elif spot.word == "set":
-            self.link(state, spot.behind, after_source(spot, state.cells), None)
+            self.link(state, spot.behind, self.world.cells_behind(spot, state.cells), None)
         elif spot.word == "raise":
             self.fall(state, state.cells, None)
         elif spot.word == "hold":
-            self.enter(state, self.state_of(spot.firsts[0], after_source(spot, state.cells)))
+            self.enter(state, self.state_of(spot.firsts[0], self.world.cells_behind(spot, state.cells)))
         elif spot.word == "call":
             self.call(state)
         else:
@@ -132,10 +133,8 @@ class Search:
 
     def come_back(self, state, way):
         """Note where a hold or a call goes on once what it has brought is left in a way."""
-        word, cells = way
-        name = state.spot.name
-        if name is not None:
-            cells = with_worth(cells, name, state.cells[name])
+        word, left = way
+        cells = self.world.cells_restored(state.spot, state.cells, left)
         if word == "end":
             self.link(state, state.spot.behind, cells, way)
         else:
@@ -158,7 +157,7 @@ class Search:
 
 def searched(flow, function, cells):
     """Return the search from a frame of a function that begins with cells on."""
-    search = Search(flow)
+    search = Search(Alone(flow))
     search.begin(function, cells)
     search.work()
     return search

@@ -2,7 +2,7 @@
 
 from heapq import heappop, heappush
 
-from heldnames.moves import event_at, is_silent
+from heldnames.moves import is_silent
 
 
 def weight_of(state):
@@ -65,18 +65,23 @@ class Measure:
                     self.offer(spent, user, out, (None, way))
 
 
-def route_to(start, goal):
-    """Return the list of pairs of a state and the way through its inner one, from a start to ahead of a goal."""
+def route_to(start, goals):
+    """Return the list of pairs of a state and the way through its inner one, from a start to ahead of a goal, and it.
+
+    The goal is one of those, all of them come to, with as few events as possible ahead of it.
+    """
+    wanted = {goal: True for goal in goals}
     queue = [(0, 0, start, None, None)]
     offered = 1
     came = {}
-    while queue:
+    goal = None
+    while goal is None:
         cost, _, state, origin, through = heappop(queue)
         if state in came:
             continue
         came[state] = (origin, through)
-        if state == goal:
-            break
+        if state in wanted:
+            goal = state
         for target, way, extra in steps_from(state):
             heappush(queue, (cost + extra, offered, target, state, way))
             offered += 1
@@ -86,7 +91,7 @@ def route_to(start, goal):
         route.append((origin, through))
         origin, through = came[origin]
     route.reverse()
-    return route
+    return route, goal
 
 
 def steps_from(state):
@@ -103,7 +108,7 @@ def steps_from(state):
     return found
 
 
-def events_out(start, out):
+def events_out(world, start, out):
     """Return the list of the fewest events from a state until it is left in a way."""
     events = []
     # Where to go on, and how to leave there, for each hold and call that isn't left yet.
@@ -113,7 +118,7 @@ def events_out(start, out):
         while state is not None:
             target, through = state.choice[way]
             if not is_silent(state.spot):
-                events.append(event_at(state.spot, state.cells))
+                events.append(world.event_here(state.spot, state.cells))
             if through is not None:
                 later.append((target, way))
                 target = state.inner
@@ -122,14 +127,15 @@ def events_out(start, out):
     return events
 
 
-def shortest_run(search, start, goal):
-    """Return a run with as few events as possible from one state of a search to another."""
+def shortest_run(search, start, goals):
+    """Return a run with as few events as possible from one state of a search to one of others, and that other one."""
     measure = Measure(list(search.states.values()))
     measure.work()
     events = []
-    for state, through in route_to(start, goal):
+    route, goal = route_to(start, goals)
+    for state, through in route:
         if not is_silent(state.spot):
-            events.append(event_at(state.spot, state.cells))
+            events.append(search.world.event_here(state.spot, state.cells))
         if through is not None:
-            events.extend(events_out(state.inner, through))
-    return events
+            events.extend(events_out(search.world, state.inner, through))
+    return events, goal

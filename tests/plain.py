@@ -8,14 +8,17 @@ class Plain:
 
     A configuration is a tuple of a control stack and of all holders. What the control stack holds, from the oldest to
     the newest, is ("steps", function, path of the body, number of the next step), ("drop", place, named),
-    ("end", function), ("guard", number of holders) and ("stopped",).
+    ("end", function), ("guard", number of holders) and ("stopped",). A holder is a tuple of its name, its worth, the
+    place of the hold that brought it, and that of the hold or the set that gave it its worth last (both only where
+    holders are traced, otherwise None).
     """
 
-    def __init__(self, program, told=None):
+    def __init__(self, program, told=None, traced=False):
         self.names = program.names()
         self.functions = [function for function, _ in program.functions()]
         self.bodies = {}
         self.told = told
+        self.traced = traced
         for function, body in program.functions():
             self.keep(function, (), body)
 
@@ -33,11 +36,11 @@ class Plain:
         return self.frame(self.functions[0], [""] * len(self.names))
 
     def frame(self, function, cells):
-        holders = tuple((name, worth) for name, worth in zip(self.names, cells) if worth != "")
+        holders = tuple((name, worth, None, None) for name, worth in zip(self.names, cells) if worth != "")
         return ((("end", function), ("steps", function, (), 0)), holders)
 
     def cells(self, holders):
-        held = dict(holders)
+        held = held_by(holders)
         return [held.get(name, "") for name in self.names]
 
     def stack(self, config):
@@ -84,26 +87,20 @@ class Plain:
         place = (function, here)
         places.append(place)
         behind = rest + (("steps", function, path, number + 1),)
-        held = dict(holders)
+        held = held_by(holders)
         word = step[0]
-        asked = []
-        if word in ("say", "when"):
-            asked.append(step[1])
-        if word in ("hold", "set") and step[2] in self.names:
-            asked.append(step[2])
-        if word == "set" and step[1] is not None:
-            asked.append(step[1])
-        if [name for name in asked if name not in held]:
+        mark = place if self.traced else None
+        if [name for name in self.asked(step) if name not in held]:
             events.append((("bare", place), (rest + (STOPPED,), holders)))
         elif word == "say":
             events.append((("say", place, held[step[1]]), (behind, holders)))
         elif word == "set":
             worth = held[step[2]] if step[2] in self.names else step[2]
-            events.append((("set", place), (behind, renewed(holders, step[1], worth))))
+            events.append((("set", place), (behind, renewed(holders, step[1], worth, mark))))
         elif word == "hold":
             worth = held[step[2]] if step[2] in self.names else step[2]
             inner = behind + (("drop", place, step[1] is not None), ("steps", function, here, 0))
-            more = () if step[1] is None else ((step[1], worth),)
+            more = () if step[1] is None else ((step[1], worth, mark, mark),)
             events.append((("hold", place), (inner, holders + more)))
         elif word == "call":
             self.call(place, step, behind, holders, base, events, ways)
@@ -123,6 +120,20 @@ class Plain:
             events.append((("raise", place), config))
             ways.extend(way)
 
+    def read(self, step):
+        """Return the names whose worths a step asks."""
+        if step[0] in ("say", "when"):
+            return [step[1]]
+        if step[0] in ("hold", "set") and step[2] in self.names:
+            return [step[2]]
+        return []
+
+    def asked(self, step):
+        """Return the names that a step asks."""
+        if step[0] == "set" and step[1] is not None:
+            return self.read(step) + [step[1]]
+        return self.read(step)
+
     def call(self, place, step, behind, holders, base, events, ways):
         if self.told is None:
             inner = behind + (("end", step[1]), ("steps", step[1], (), 0))
@@ -136,7 +147,7 @@ class Plain:
             changed = holders
             for name, worth in zip(self.names, after):
                 if worth != "":
-                    changed = renewed(changed, name, worth)
+                    changed = renewed(changed, name, worth, None)
             if word == "end":
                 events.append((called, (behind, changed)))
             else:
@@ -150,7 +161,8 @@ class Plain:
             if control[-1][0] == "guard":
                 return (control[:-1], holders[:control[-1][1]]), []
             control = control[:-1]
-        return ((), ()), [("raise", self.cells(holders[:base]))]
+        # Of the holders those stay here that were there ahead, to be looked at.
+        return ((), holders[:base]), [("raise", self.cells(holders[:base]))]
 
     def walk(self, run):
         """Return the configuration behind a run, or None if it is none."""
@@ -163,12 +175,17 @@ class Plain:
         return config
 
 
-def renewed(holders, name, worth):
+def held_by(holders):
+    """Return a dict of the names that are held, with their worths."""
+    return {holder[0]: holder[1] for holder in holders}
+
+
+def renewed(holders, name, worth, mark):
     """Return holders with another worth for the newest one of a name."""
     if name is None:
         return holders
     newest = max(number for number, holder in enumerate(holders) if holder[0] == name)
-    return holders[:newest] + ((name, worth),) + holders[newest + 1:]
+    return holders[:newest] + ((name, worth, holders[newest][2], mark),) + holders[newest + 1:]
 
 
 class Seen:
@@ -226,4 +243,102 @@ def is_table_plainly(program, rows):
             return False
         if not all((word, list(after)) in ways for word, after in seen.ways):
             return False
+    return True
+
+
+class Traced:
+    """What a breadth-first search through runs tells of holders, as far as a number of configurations."""
+
+    def __init__(self, program, most):
+        self.plain = Plain(program, traced=True)
+        self.writers = {}
+        self.used = set()
+        level = [self.plain.start()]
+        seen = set(level)
+        while level and len(seen) < most:
+            later = []
+            for now in level:
+                for ahead in self.look(now):
+                    if ahead not in seen:
+                        seen.add(ahead)
+                        later.append(ahead)
+            level = later
+        # Whether this was all.
+        self.whole = not level
+
+    def look(self, now):
+        places, events, _ = self.plain.unfold(now)
+        newest = {holder[0]: holder for holder in now[1]}
+        for place in places:
+            step = self.step_at(place)
+            for name, holder in newest.items():
+                self.writers.setdefault((place, name), set()).add(holder[3])
+                if name in self.plain.asked(step):
+                    self.used.add(holder[2])
+                if name in self.plain.read(step):
+                    self.used.add(holder[3])
+            if step[0] == "set" and step[1] is not None and step[1] not in newest:
+                self.used.add(place)
+        return [ahead for _, ahead in events]
+
+    def step_at(self, place):
+        function, path = place
+        return self.plain.bodies[(function, path[:-1])][path[-1]]
+
+
+class Lockstep:
+    """What a breadth-first search finds through two configurations by the events that both have.
+
+    It goes as far as a number of pairs of configurations.
+    """
+
+    def __init__(self, plain, config, other, twin, most):
+        # The fewest events that just one of the two can have, as far as they were found.
+        self.least = None
+        # The pairs of cells with which both are left.
+        self.left = set()
+        self.bases = (len(config[1]), len(twin[1]))
+        self.plains = (plain, other)
+        level = [(config, twin)]
+        seen = set(level)
+        # The number of events up to which all is found, or None if there is nothing more at all.
+        self.whole = 0
+        while level and self.least is None and len(seen) < most:
+            later = []
+            for pair in level:
+                for ahead in self.look(pair):
+                    if ahead not in seen:
+                        seen.add(ahead)
+                        later.append(ahead)
+            level = later
+            self.whole += 1
+        if not level or self.least is not None:
+            self.whole = None
+
+    def look(self, pair):
+        found = []
+        for plain, config, base in zip(self.plains, pair, self.bases):
+            events = plain.unfold(config, base)[1]
+            ahead = dict(events)
+            assert len(ahead) == len(events)
+            found.append(ahead)
+        one, two = found
+        if set(one) != set(two):
+            self.least = self.whole + 1
+            return []
+        for event in one:
+            if not one[event][0]:
+                left = [tuple(plain.cells(config[event][1])) for plain, config in zip(self.plains, found)]
+                self.left.add(tuple(left))
+        return [(one[event], two[event]) for event in one]
+
+
+def goes(plain, config, events):
+    """Return whether events can come one after another from a configuration on."""
+    base = len(config[1])
+    for event in events:
+        ahead = dict(plain.unfold(config, base)[1])
+        if event not in ahead:
+            return False
+        config = ahead[event]
     return True

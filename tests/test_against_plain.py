@@ -4,7 +4,7 @@ import random
 import unittest
 from itertools import product
 
-from draw import WORDS, drawn_program, sure_program
+from draw import WORDS, choosing_program, drawn_program, sure_program
 from heldnames.cells import is_table, met, run_to, table, ways_out
 from heldnames.programs import Program, places, step_at
 from plain import Plain, Seen, is_table_plainly
@@ -84,6 +84,19 @@ class Drawn(unittest.TestCase):
                 met_plainly = sum(len(met(program, place)) for place in all_places(program))
                 self.assertEqual(met_plainly, len(seen.least))
         self.assertGreater(len([many for many in lengths if many > 1000]), 10)
+
+    def test_ways_of_unlike_lengths(self):
+        chance = random.Random(9)
+        lengths = []
+        for _ in range(800):
+            program = choosing_program(chance)
+            plain = Plain(program)
+            run = run_to(program, ("f", (0, 1)), ["x"])
+            seen = Seen(plain, plain.start(), 4000)
+            self.assertEqual(len(run), seen.least.get((("f", (0, 1)), ("x",)), len(run)))
+            self.assertIsNotNone(plain.walk(run))
+            lengths.append(len(run))
+        self.assertGreater(len([many for many in lengths if many > 6]), 50, lengths)
 
     def check_run(self, plain, seen, place, cells, run):
         """Check a run to a step, and return what kind of run it is."""

@@ -34,6 +34,35 @@ rounds = Program(["a"], ["x", "y"], [("f", [("hold", "a", "x", [("loop", [("set"
 # [[('raise', ['x'])], [], [('g', ['y'], [('raise', ['x'])]), ('main', [''], [('end', [''])])], [['x'], ['y']], [['']], [('hold', ('f', (0,))), ('set', ('f', (0, 0, 0)))]]
 '''
 
+ASKED = '''
+from heldnames.asked import idle, muted, writers
+from heldnames.programs import Program
+inner = [("set", "a", "one"), ("hold", "a", "two", [("say", "a")]), ("set", "a", "b")]
+pair = Program(["a", "b"], ["one", "two"], [("main", [("hold", "b", "two", [("hold", "a", "one", [("call", "f"), ("say", "b")])])]), ("f", inner)])
+[writers(pair, ("f", (1, 0)), "a"), writers(pair, ("f", (2,)), "a"), idle(pair), idle(muted(pair, idle(pair)))]
+# [[('f', (1,))], [('f', (0,))], [('f', (0,)), ('f', (2,))], [('main', (0, 0))]]
+'''
+
+TAKEN = '''
+from heldnames.programs import Program
+from heldnames.taken import apart, gives, takes
+inner = [("set", "a", "one"), ("hold", "a", "two", [("say", "a")]), ("set", "a", "b")]
+pair = Program(["a", "b"], ["one", "two"], [("main", [("call", "f")]), ("f", inner)])
+[takes(pair, "f"), gives(pair, "f"), apart(pair, "f", ["one", "two"], ["two", "two"]), len(apart(pair, "f", ["", "two"], ["two", "two"]))]
+# [['b'], ['a'], None, 1]
+'''
+
+SHAPES = '''
+from heldnames.asked import idle, muted
+from heldnames.pairs import first_unlike
+from heldnames.programs import Program
+from heldnames.spared import spared
+body = [("hold", "tone", "low", [("hold", "tone", "tone", [("say", "tone")]), ("set", "tone", "low"), ("say", "tone")])]
+bell = Program(["tone"], ["low", "high"], [("main", body)])
+[idle(bell), spared(bell), first_unlike(bell, muted(bell, [("main", (0, 0))])), len(first_unlike(bell, muted(bell, [("main", (0,))])))]
+# [[], [('main', (0, 0)), ('main', (0, 1))], None, 2]
+'''
+
 
 class Examples(unittest.TestCase):
     def check(self, text):
@@ -50,6 +79,15 @@ class Examples(unittest.TestCase):
 
     def test_section_5_second(self):
         self.check(TURNS)
+
+    def test_section_6(self):
+        self.check(ASKED)
+
+    def test_section_7(self):
+        self.check(TAKEN)
+
+    def test_sections_8_and_9(self):
+        self.check(SHAPES)
 
 
 if __name__ == "__main__":

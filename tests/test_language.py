@@ -25,6 +25,10 @@ INTERFACE = {
     "programs": ["Program", "places", "step_at"],
     "runs": ["is_run", "next_events", "stack_of", "holders_of", "cells_of"],
     "cells": ["met", "run_to", "ways_out", "table", "is_table"],
+    "asked": ["writers", "idle", "muted"],
+    "taken": ["apart", "takes", "gives"],
+    "spared": ["spared"],
+    "pairs": ["first_unlike"],
 }
 
 

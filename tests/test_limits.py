@@ -2,10 +2,16 @@
 
 import time
 import unittest
+from itertools import product
 
+from draw import held_and_set
+from heldnames.asked import idle, muted, writers
 from heldnames.cells import is_table, met, run_to, table, ways_out
+from heldnames.pairs import first_unlike
 from heldnames.programs import Program
 from heldnames.runs import cells_of, holders_of, is_run, next_events, stack_of
+from heldnames.spared import spared
+from heldnames.taken import apart, gives, takes
 from test_against_plain import all_cells, all_places
 
 SECONDS = 5
@@ -40,10 +46,10 @@ def holding(names, worths, first, second):
     return [("loop", steps), ("hold", names[0], worth, [("hold", last, "y", [("call", second)])])]
 
 
-def large_programs():
+def large_programs(kinds_of_cells=((["a", "b", "c"], ["x", "y"]), (["a", "b"], ["x", "y", "z"]))):
     """Return programs of four functions that call one another and themselves, with as many cells as may be."""
     found = []
-    for names, worths in [(["a", "b", "c"], ["x", "y"]), (["a", "b"], ["x", "y", "z"])]:
+    for names, worths in kinds_of_cells:
         for kinds in [(setting, raising, setting), (raising, raising, setting), (holding, setting, raising)]:
             bodies = [("f", holding(names, worths, "g", "h"))]
             for number, kind in enumerate(kinds):
@@ -51,6 +57,30 @@ def large_programs():
                 bodies.append((function, kind(names, worths, function, later)))
             found.append(Program(names, worths, bodies))
     return found
+
+
+def quiet_program():
+    """Return a program in which no worth is ever told from another one, so that all pairs of cells can come."""
+    def body(first, second, third, name, other):
+        sets = [("set", name, "x"), ("set", other, name), one_of(("set", name, "y"), ("call", first))]
+        holds = [("hold", name, other, [("hold", other, "y", [("call", second)])])]
+        return [("loop", [("guard", [one_of(("call", third), ("raise",))] + sets)] + holds)]
+
+    functions = [("f", body("g", "h", "i", "a", "b")), ("g", body("h", "i", "f", "b", "a"))]
+    functions += [("h", body("i", "f", "g", "a", "b")), ("i", body("f", "g", "h", "b", "a"))]
+    return Program(["a", "b"], ["x", "y"], functions)
+
+
+def twelve_program():
+    """Return a program with twelve holds and sets, three in each of four functions that call one another."""
+    def body(first, second, name, other):
+        sets = [("set", name, "x"), ("set", other, name)]
+        return [("loop", [("guard", [one_of(("call", first), ("raise",)), ("hold", name, other, [("call", second)])] + sets)])]
+
+    start = [("hold", "a", "x", [("hold", "b", "y", [("call", "g"), ("say", "a")])]), ("set", None, "x")]
+    functions = [("f", start), ("g", body("h", "i", "a", "b") + [("set", "b", "y")])]
+    functions += [("h", body("i", "g", "b", "a")), ("i", body("g", "h", "a", "b"))]
+    return Program(["a", "b"], ["x", "y"], functions)
 
 
 def endless_program():
@@ -111,6 +141,76 @@ class Limits(unittest.TestCase):
         self.assertIsNone(self.timed(run_to, program, ("f", (0, 0, 1)), ["y", "x"]))
         self.assertEqual(self.timed(met, program, ("k", (0, 1, 0, 1, 0))), [["x", "z"]])
         self.assertEqual(len(self.timed(run_to, program, ("k", (0, 1, 0, 1, 0)), ["x", "z"])), 34)
+
+    def test_who_is_asked(self):
+        for program in large_programs():
+            found = self.timed(idle, program)
+            self.timed(muted, program, found)
+            for place in all_places(program):
+                for name in program.names():
+                    self.timed(writers, program, place, name)
+
+    def test_two_cells(self):
+        for program in large_programs([(["a", "b"], ["x", "y"])]) + [quiet_program(), twelve_program()]:
+            for function, _ in program.functions():
+                self.timed(takes, program, function)
+                self.timed(gives, program, function)
+                for cells, other in product(all_cells(program), repeat=2):
+                    self.timed(apart, program, function, cells, other)
+        for function in "fghi":
+            self.assertEqual(takes(quiet_program(), function), [])
+            self.assertEqual(gives(quiet_program(), function), ["a", "b"])
+            self.assertIsNone(apart(quiet_program(), function, ["x", "y"], ["y", "x"]))
+
+    def test_programs_of_one_shape(self):
+        program = twelve_program()
+        many = [place for place, step in held_and_set(program) if step[1] is not None]
+        self.assertEqual(len(many), 12)
+        can_go = self.timed(spared, program)
+        self.assertTrue(0 < len(can_go) < 12)
+        for place in many:
+            events = self.timed(first_unlike, program, muted(program, [place]))
+            self.assertEqual(events is None, place in can_go)
+        for program in large_programs([(["a", "b"], ["x", "y"])]) + [quiet_program()]:
+            self.timed(spared, program)
+            self.assertIsNone(self.timed(first_unlike, program, Program(["a", "b"], ["x", "y"], program.functions())))
+
+    def test_goings_of_very_many_events(self):
+        # With a and b as digits, h calls g eleven times, up to the last number.
+        carry = ("when", "b", "x", [("hold", "a", "x", [("hold", "b", "y", [("call", "h")])])], [])
+        count = [("when", "a", "x", [("hold", "a", "y", [("call", "h")])], [carry])]
+        start = [("hold", "a", "x", [("hold", "b", "x", [("call", "h")])])]
+        start += [("hold", "a", "a", [("say", "b")]), ("set", "b", "y")]
+        functions = [("f", start), ("g", count), ("h", [("call", "g")] * 11 + [("say", "b")])]
+        program = Program(["a", "b"], ["x", "y"], functions)
+        # What makes a difference does so only behind far more events than may be asked for.
+        self.assertEqual(self.timed(takes, program, "f"), ["b"])
+        self.assertEqual(self.timed(gives, program, "f"), ["b"])
+        self.assertIsNone(self.timed(apart, program, "f", ["x", "y"], ["y", "y"]))
+        functions[0] = ("f", [("hold", "a", "x", [("hold", "b", "x", start)])])
+        program = Program(["a", "b"], ["x", "y"], functions)
+        self.assertEqual(self.timed(idle, program), [("f", (0, 0, 1)), ("f", (0, 0, 2))])
+        self.assertEqual(self.timed(writers, program, ("f", (0, 0, 2)), "b"), [("f", (0, 0))])
+        can_go = self.timed(spared, program)
+        self.assertEqual(can_go, [("f", (0, 0, 0)), ("f", (0, 0, 0, 0)), ("f", (0, 0, 1)), ("f", (0, 0, 2))])
+        self.assertIsNone(self.timed(first_unlike, program, muted(program, can_go)))
+
+    def test_least_lists_of_3000_events(self):
+        # Eleven calls of g, each of eleven calls of h, and then what has been held all the while.
+        functions = [("g", [("call", "h")] * 11), ("h", [("set", None, "x")] * 12)]
+        calls = [("call", "g")] * 10 + [("say", "a")]
+        program = Program(["a", "b"], ["x", "y"], [("f", [("hold", "a", "x", calls)])] + functions)
+        other = Program(["a", "b"], ["x", "y"], [("f", [("hold", "a", "y", calls)])] + functions)
+        events = self.timed(first_unlike, program, other)
+        self.assertEqual(len(events), 1 + 10 * (11 * 14 + 2) + 1)
+        self.assertNotEqual(is_run(program, events), is_run(other, events))
+        functions[1] = ("h", [("set", None, "x")] * 9 + [("call", "i")] * 3)
+        functions.append(("i", [("set", None, "x")] * 2))
+        program = Program(["a", "b"], ["x", "y"], [("f", [("call", "g")] * 11 + [("say", "a")])] + functions)
+        events = self.timed(apart, program, "f", ["x", "x"], ["y", "x"])
+        self.assertEqual(len(events), 11 * (11 * 23 + 2) + 1)
+        self.assertTrue(2700 < len(events) <= 3000)
+        self.assertEqual(self.timed(takes, program, "f"), ["a"])
 
     def test_runs_of_300_events(self):
         program = Program(["a", "b"], ["x", "y"], [("f", [("hold", "a", "x", [("either", [("call", "f")], [])])])])

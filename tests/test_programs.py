@@ -2,7 +2,7 @@ import time
 import unittest
 
 from draw import WORDS, deep_list, values_with_programs
-from heldnames.errors import InvalidItem, InvalidList, InvalidPlace, InvalidProgram, InvalidWord
+from heldnames.errors import InvalidItem, InvalidList, InvalidPlace, InvalidProgram, InvalidWord, UnknownName
 from heldnames.programs import Program, places, step_at
 
 EVERY = [
@@ -32,7 +32,8 @@ class Caught(unittest.TestCase):
         with self.assertRaises(error) as caught:
             call(*arguments)
         self.assertIs(type(caught.exception), error)
-        self.assertIs(caught.exception.value, value)
+        field = "name" if error is UnknownName else "value"
+        self.assertIs(getattr(caught.exception, field), value)
 
 
 class Making(Caught):
