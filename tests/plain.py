@@ -227,6 +227,25 @@ class Seen:
         return events
 
 
+class Heard(Seen):
+    """What such a search finds, and what the events tell that it comes by."""
+
+    def __init__(self, plain, config, most):
+        # The fewest events of a list that ends with a "bare", as far as one was found.
+        self.bare = None
+        self.says = set()
+        super().__init__(plain, config, most)
+
+    def look(self, plain, now, base):
+        events = super().look(plain, now, base)
+        for event, _ in events:
+            if event[0] == "bare" and self.bare is None:
+                self.bare = self.whole + 1
+            if event[0] == "say":
+                self.says.add(event[1:])
+        return events
+
+
 def is_table_plainly(program, rows):
     """Return whether rows of functions, cells and ways are a table, by the words of the document."""
     told = {}

@@ -63,6 +63,26 @@ bell = Program(["tone"], ["low", "high"], [("main", body)])
 # [[], [('main', (0, 0)), ('main', (0, 1))], None, 2]
 '''
 
+BEGUN = '''
+from heldnames.begun import bare_from, begun, says_from
+from heldnames.programs import Program
+body = [("hold", "tone", "low", [("call", "talk")]), ("say", "tone")]
+talk = [("when", "tone", "low", [("set", "tone", "high"), ("call", "talk")], [("say", "tone")])]
+horn = Program(["tone"], ["low", "high"], [("main", body), ("talk", talk)])
+[bare_from(horn, "main", [""])[-1], bare_from(horn, "main", ["high"]), says_from(horn, "main", ["high"]), begun(horn, "talk", ["low"]).functions()[0]]
+# [('bare', ('main', (1,))), None, [(('main', (1,)), 'high'), (('talk', (0, 1, 0)), 'high')], ('begin', [('hold', 'tone', 'low', [('call', 'talk')])])]
+'''
+
+TEXTS = r'''
+from heldnames.programs import Program
+from heldnames.texts import read_program, text_of
+body = [("hold", "tone", "low", [("call", "talk")]), ("say", "tone")]
+talk = [("when", "tone", "low", [("set", "tone", "high"), ("call", "talk")], [("say", "tone")])]
+horn = Program(["tone"], ["low", "high"], [("main", body), ("talk", talk)])
+[text_of(horn).split("\n"), read_program("names a\nworths b\n\nfunction f{hold _ b{raise}}").functions()]
+# [['names tone', 'worths low high', 'function main { hold tone low { call talk } say tone }', 'function talk { when tone low { set tone high call talk } or { say tone } }'], [('f', [('hold', None, 'b', [('raise',)])])]]
+'''
+
 
 class Examples(unittest.TestCase):
     def check(self, text):
@@ -88,6 +108,12 @@ class Examples(unittest.TestCase):
 
     def test_sections_8_and_9(self):
         self.check(SHAPES)
+
+    def test_section_10(self):
+        self.check(BEGUN)
+
+    def test_section_12(self):
+        self.check(TEXTS)
 
 
 if __name__ == "__main__":

@@ -7,7 +7,7 @@ import unittest
 FOLDER = os.path.join(os.path.dirname(os.path.dirname(os.path.abspath(__file__))), "heldnames")
 BUILTINS = {
     "len", "range", "enumerate", "zip", "min", "max", "sum", "abs", "sorted", "reversed", "int", "str", "bool", "list",
-    "tuple", "dict", "set", "isinstance", "ord", "repr", "any", "all", "divmod", "super", "ValueError",
+    "tuple", "dict", "set", "isinstance", "ord", "repr", "any", "all", "divmod", "super", "ValueError", "iter",
 }
 METHODS = {
     "append", "clear", "copy", "count", "endswith", "extend", "find", "get", "index", "insert", "items", "join", "keys",
@@ -15,7 +15,7 @@ METHODS = {
 }
 BARRED = (
     ast.Global, ast.AsyncFunctionDef, ast.Await, ast.GeneratorExp, ast.Yield, ast.YieldFrom, ast.AnnAssign, ast.Set,
-    ast.Import, ast.With, ast.Try, ast.Div,
+    ast.Import, ast.With, ast.Div,
 )
 INTERFACE = {
     "errors": [
@@ -29,6 +29,18 @@ INTERFACE = {
     "taken": ["apart", "takes", "gives"],
     "spared": ["spared"],
     "pairs": ["first_unlike"],
+    "begun": ["bare_from", "says_from", "begun"],
+    "live": ["Live"],
+    "texts": ["text_of", "read_program"],
+    "library": ["Library"],
+}
+METHODS_LISTED = {
+    ("programs", "Program"): ["names", "worths", "functions", "__eq__"],
+    ("live", "Live"): ["rewrite", "mute", "shown", "met", "idle", "back", "log", "copy", "__eq__"],
+    ("library", "Library"): [
+        "put", "drop", "change", "program", "cells_of", "names", "quiet", "alike", "back", "log", "copy", "__len__",
+        "__contains__", "__iter__", "__eq__",
+    ],
 }
 
 
@@ -103,6 +115,57 @@ class Language(unittest.TestCase):
             tree = ast.parse(texts[module + ".py"])
             defined = [node.name for node in tree.body if isinstance(node, (ast.FunctionDef, ast.ClassDef))]
             self.assertEqual([name for name in names if name not in defined], [])
+
+    def test_methods_are_defined_in_the_class_itself(self):
+        texts = dict(files())
+        for (module, name), methods in METHODS_LISTED.items():
+            [node] = [node for node in ast.parse(texts[module + ".py"]).body if getattr(node, "name", "") == name]
+            defined = [part.name for part in node.body if isinstance(part, ast.FunctionDef)]
+            self.assertEqual([method for method in methods if method not in defined], [])
+            self.assertEqual(len(set(defined)), len(defined))
+
+    def test_only_own_errors_are_caught(self):
+        for name, text in files():
+            for node in ast.walk(ast.parse(text)):
+                if isinstance(node, ast.Try):
+                    self.assertEqual(node.finalbody, [])
+                    for handler in node.handlers:
+                        caught = handler.type.elts if isinstance(handler.type, ast.Tuple) else [handler.type]
+                        others = [error.id for error in caught if error.id not in INTERFACE["errors"]]
+                        self.assertEqual(others, [], name)
+
+    def test_no_methods_are_attributes_elsewhere(self):
+        trees = [ast.parse(text) for _, text in files()]
+        methods, stored = set(), set()
+        for tree in trees:
+            for node in ast.walk(tree):
+                if isinstance(node, ast.ClassDef):
+                    methods |= {part.name for part in node.body if isinstance(part, ast.FunctionDef)}
+                if isinstance(node, ast.Attribute) and isinstance(node.ctx, ast.Store):
+                    stored.add(node.attr)
+        self.assertEqual(methods & stored, set())
+
+    def test_names_of_classes_and_imports_are_not_used_again(self):
+        for name, text in files():
+            tree = ast.parse(text)
+            taken = [alias.name for node in tree.body if isinstance(node, ast.ImportFrom) for alias in node.names]
+            taken += [node.name for node in tree.body if isinstance(node, ast.ClassDef)]
+            self.assertEqual(len(set(taken)), len(taken), name)
+            used = [node.arg for node in ast.walk(tree) if isinstance(node, ast.arg)]
+            names = [node for node in ast.walk(tree) if isinstance(node, ast.Name)]
+            used += [node.id for node in names if not isinstance(node.ctx, ast.Load)]
+            self.assertEqual(set(taken) & set(used), set(), name)
+
+    def test_no_files_import_from_each_other(self):
+        wanted = {}
+        for name, text in files():
+            nodes = [node for node in ast.parse(text).body if isinstance(node, ast.ImportFrom)]
+            wanted["heldnames." + name[:-3]] = {node.module for node in nodes if node.module.startswith("heldnames")}
+        while wanted:
+            free = [name for name, modules in wanted.items() if not modules & set(wanted)]
+            self.assertNotEqual(free, [], wanted)
+            for name in free:
+                del wanted[name]
 
 
 if __name__ == "__main__":

@@ -6,12 +6,17 @@ from itertools import product
 
 from draw import held_and_set
 from heldnames.asked import idle, muted, writers
+from heldnames.begun import bare_from, begun, says_from
 from heldnames.cells import is_table, met, run_to, table, ways_out
+from heldnames.errors import InvalidText
+from heldnames.library import Library
+from heldnames.live import Live
 from heldnames.pairs import first_unlike
 from heldnames.programs import Program
 from heldnames.runs import cells_of, holders_of, is_run, next_events, stack_of
 from heldnames.spared import spared
 from heldnames.taken import apart, gives, takes
+from heldnames.texts import read_program, text_of
 from test_against_plain import all_cells, all_places
 
 SECONDS = 5
@@ -92,6 +97,17 @@ def endless_program():
     carry = [("when", "b", "x", [("hold", "b", "y", [("call", "h")])], [ended])]
     start = [("hold", "a", "x", [("hold", "b", "x", [("call", "h"), ("say", "a")])])]
     return Program(["a", "b"], ["x", "y", "z"], [("f", start), ("g", count), ("h", [("call", "g")] * 12), ("k", carry)])
+
+
+def far_program():
+    """Return a program whose first function tells what a and b are only behind far more events than may be asked for."""
+    # With a and b as digits, h calls g eleven times, up to the last number.
+    carry = ("when", "b", "x", [("hold", "a", "x", [("hold", "b", "y", [("call", "h")])])], [])
+    count = [("when", "a", "x", [("hold", "a", "y", [("call", "h")])], [carry])]
+    start = [("hold", "a", "x", [("hold", "b", "x", [("call", "h")])])]
+    start += [("hold", "a", "a", [("say", "b")]), ("set", "b", "y")]
+    functions = [("f", start), ("g", count), ("h", [("call", "g")] * 11 + [("say", "b")])]
+    return Program(["a", "b"], ["x", "y"], functions)
 
 
 class Limits(unittest.TestCase):
@@ -176,13 +192,9 @@ class Limits(unittest.TestCase):
             self.assertIsNone(self.timed(first_unlike, program, Program(["a", "b"], ["x", "y"], program.functions())))
 
     def test_goings_of_very_many_events(self):
-        # With a and b as digits, h calls g eleven times, up to the last number.
-        carry = ("when", "b", "x", [("hold", "a", "x", [("hold", "b", "y", [("call", "h")])])], [])
-        count = [("when", "a", "x", [("hold", "a", "y", [("call", "h")])], [carry])]
-        start = [("hold", "a", "x", [("hold", "b", "x", [("call", "h")])])]
-        start += [("hold", "a", "a", [("say", "b")]), ("set", "b", "y")]
-        functions = [("f", start), ("g", count), ("h", [("call", "g")] * 11 + [("say", "b")])]
-        program = Program(["a", "b"], ["x", "y"], functions)
+        program = far_program()
+        functions = program.functions()
+        start = functions[0][1]
         # What makes a difference does so only behind far more events than may be asked for.
         self.assertEqual(self.timed(takes, program, "f"), ["b"])
         self.assertEqual(self.timed(gives, program, "f"), ["b"])
@@ -250,6 +262,134 @@ class Limits(unittest.TestCase):
         self.assertEqual(run[-1][0], "raise")
         self.assertEqual(run.count(("call", ("g", (1,)))), 7)
         self.assertIsNone(run_to(program, ("g", (2,)), ["x", "x", "x"]))
+
+    def test_beginnings(self):
+        for program in large_programs() + [quiet_program(), twelve_program(), endless_program()]:
+            for function, _ in program.functions():
+                for cells in all_cells(program):
+                    said = self.timed(says_from, program, function, cells)
+                    self.assertEqual(said, sorted(said))
+                    self.timed(bare_from, program, function, cells)
+
+    def test_begun(self):
+        for names, worths in [(["a", "b", "c"], ["x", "y"]), (["a", "b"], ["x", "y", "z"])]:
+            kinds = [("f", holding), ("g", setting), ("h", raising)]
+            program = Program(names, worths, [(function, kind(names, worths, "g", "h")) for function, kind in kinds])
+            for function, _ in program.functions():
+                for cells in all_cells(program):
+                    wider = self.timed(begun, program, function, cells)
+                    self.assertEqual(wider.functions()[1:], program.functions())
+                    self.timed(table, wider)
+
+    def test_goings_of_3000_events_to_a_bare_name(self):
+        bodies = [("f", [("call", "g")] * 11 + [("say", "a")]), ("g", [("call", "h")] * 11)]
+        bodies.append(("h", [("set", None, "x")] * 9 + [("call", "i")] * 3))
+        program = Program(["a"], ["x"], bodies + [("i", [("set", None, "x")] * 2)])
+        events = self.timed(bare_from, program, "f", [""])
+        self.assertEqual(len(events), 11 * (11 * 23 + 2) + 1)
+        self.assertTrue(2700 < len(events) <= 3000)
+        self.assertTrue(self.timed(is_run, program, events))
+        self.assertIsNone(self.timed(bare_from, program, "f", ["x"]))
+        self.assertEqual(self.timed(says_from, program, "f", ["x"]), [(("f", (11,)), "x")])
+
+    def test_200_deeds_of_live_programs(self):
+        for program in large_programs([(["a", "b"], ["x", "y"])]) + [quiet_program(), twelve_program()]:
+            named = [place for place, step in held_and_set(program) if step[1] is not None]
+            body = dict(program.functions())["g"]
+            live = Live(program)
+            began = time.monotonic()
+            for number in range(100):
+                place = named[number % len(named)]
+                live.mute(place)
+                live.rewrite(place[0], dict(program.functions())[place[0]])
+            self.assertEqual(len(live.log()), 200)
+            self.assertEqual(live.log()[-1][0], "rewrite")
+            twin = live.copy()
+            for _ in range(199):
+                live.back()
+            self.assertEqual(live.shown(), muted(program, named[:1]))
+            self.assertLess(time.monotonic() - began, SECONDS)
+            self.assertEqual(len(twin.log()), 200)
+            live.back()
+            self.assertEqual(live, twin)
+            live.rewrite("g", body)
+            self.assertEqual(self.timed(live.idle), idle(program))
+            for place in all_places(program):
+                self.assertEqual(self.timed(live.met, place), met(program, place))
+
+    def test_texts_of_3000_signs(self):
+        names, worths = ["abcdefgh", "bcdefghi"], ["cdefghij", "defghijk"]
+        deep = [("say", "abcdefgh")]
+        for _ in range(6):
+            deep = [("when", "abcdefgh", "cdefghij", deep, [("set", None, "bcdefghi"), ("call", "function")])]
+        program = Program(names, worths, [(function, deep) for function in ["function", "g", "h", "i"]])
+        text = self.timed(text_of, program)
+        self.assertTrue(1200 < len(text) < 3000, len(text))
+        self.assertEqual(self.timed(read_program, text), program)
+        self.assertEqual(self.timed(read_program, text + " " * (3000 - len(text))), program)
+        self.assertEqual(self.timed(read_program, "\n" * (3000 - len(text)) + text), program)
+        large = Program(["a"], ["x"], [("f", [("set", "a", "x")] * 360 + [("raise",)])])
+        self.assertTrue(2900 < len(text_of(large)) <= 3000)
+        self.assertEqual(self.timed(read_program, text_of(large)), large)
+        head = "names a\nworths x\nfunction f"
+        for sign in ["{", "}", "a", "_", " ", "\n", "{}", "loop{", "{ loop ", "either{}or{}", "say a "]:
+            with self.assertRaises(InvalidText):
+                self.timed(read_program, head + sign * (2970 // len(sign)))
+
+    def test_texts_of_large_bodies(self):
+        body = [("say", "a")] * 75
+        for _ in range(11):
+            body = [("hold", "a", "x", body)] + [("either", [], [("raise",)])] * 40
+        program = Program(["a"], ["x"], [(function, body) for function in "fghi"])
+        many = len(all_places(program))
+        self.assertTrue(3800 < many <= 4000, many)
+        text = self.timed(text_of, program)
+        self.assertEqual(text.count("say a"), 300)
+        self.assertEqual(text.count("{"), text.count("}"))
+
+    def test_libraries(self):
+        for program in large_programs() + [quiet_program(), twelve_program()]:
+            library = Library(program)
+            for name, cells in zip("abcdefgh", all_cells(program)[-8:]):
+                self.timed(library.put, name, cells)
+            quiet = self.timed(library.quiet)
+            main = program.functions()[0][0]
+            never = [name for name in library if bare_from(program, main, library.cells_of(name)) is None]
+            self.assertEqual(quiet, never)
+            if len(program.names()) == 2 and len(program.worths()) == 2:
+                for cells in all_cells(program):
+                    told = self.timed(library.alike, cells)
+                    self.assertLessEqual({name for name in library if library.cells_of(name) == cells}, set(told))
+
+    def test_libraries_and_very_many_events(self):
+        program = far_program()
+        library = Library(program)
+        for name, cells in {"a": ["x", "y"], "b": ["", "y"], "c": ["y", "x"], "d": ["y", "y"], "e": ["x", ""]}.items():
+            library.put(name, cells)
+        self.assertEqual(self.timed(library.quiet), ["a", "c", "d"])
+        for cells, wanted in [(["y", "y"], ["a", "d"]), (["x", "x"], ["c"]), (["", "x"], ["b"]), (["y", ""], ["e"])]:
+            self.assertEqual(self.timed(library.alike, cells), wanted)
+        self.assertEqual(self.timed(says_from, program, "f", ["x", "y"])[0], (("f", (1, 0)), "y"))
+
+    def test_200_deeds_of_libraries(self):
+        program = quiet_program()
+        library = Library(program)
+        began = time.monotonic()
+        for name in "abcdefgh":
+            library.put(name, ["x", "y"])
+        for number in range(64):
+            name = "abcdefgh"[number % 8]
+            library.change(name, ["y", ""])
+            library.drop(name)
+            library.put(name, ["", "y"])
+        self.assertEqual(len(library.log()), 200)
+        twin = library.copy()
+        self.assertEqual([len(library), len(twin.log())], [8, 200])
+        for _ in range(200):
+            library.back()
+        self.assertEqual([library, library.log()], [Library(program), []])
+        self.assertEqual([twin.names(), len(twin.log())], [list("abcdefgh"), 200])
+        self.assertLess(time.monotonic() - began, SECONDS)
 
 
 if __name__ == "__main__":

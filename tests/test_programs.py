@@ -2,7 +2,9 @@ import time
 import unittest
 
 from draw import WORDS, deep_list, values_with_programs
-from heldnames.errors import InvalidItem, InvalidList, InvalidPlace, InvalidProgram, InvalidWord, UnknownName
+from heldnames.errors import (
+    InvalidItem, InvalidList, InvalidName, InvalidPlace, InvalidProgram, InvalidWord, TakenName, UnknownName,
+)
 from heldnames.programs import Program, places, step_at
 
 EVERY = [
@@ -32,8 +34,21 @@ class Caught(unittest.TestCase):
         with self.assertRaises(error) as caught:
             call(*arguments)
         self.assertIs(type(caught.exception), error)
-        field = "name" if error is UnknownName else "value"
+        field = "name" if error in (InvalidName, TakenName, UnknownName) else "value"
         self.assertIs(getattr(caught.exception, field), value)
+
+    def told(self, call, *arguments):
+        """Return what a call tells: the same each time, in lists of its own, whatever becomes of those told before."""
+        shown = None
+        for _ in range(3):
+            value = call(*arguments)
+            shown = shown or repr(value)
+            self.assertEqual(repr(value), shown)
+            found = lists_in(value)
+            self.assertEqual(len({id(part) for part in found}), len(found))
+            for part in found:
+                part.append("more")
+        return call(*arguments)
 
 
 class Making(Caught):
